@@ -3,13 +3,15 @@ package leb
 import (
 	"strings"
 
-	"chert/api"
+	"chert/numbers"
 )
 
 const (
-	labelMark   = 'L'
+	labelMark   = "L"
 	numberBytes = 8
-	labelBytes  = 2 + 2*numberBytes
+	flagBytes   = 1
+	flagsAt     = len(labelMark) + 2*numberBytes
+	labelBytes  = flagsAt + flagBytes
 )
 
 // The bits of a label's last byte.
@@ -25,9 +27,6 @@ type label struct {
 	single, changed bool // changed: Change wrote it
 }
 
-// isNumber: can it be an id or a turn?
-func isNumber(n int) bool { return n >= 0 && n <= api.MaxNumber }
-
 // payload: the label as it is written.
 func (l label) payload() string {
 	flags := 0
@@ -37,42 +36,18 @@ func (l label) payload() string {
 	if l.changed {
 		flags |= changedBit
 	}
-	text := []byte{labelMark}
-	text = appendNumber(text, l.id)
-	text = appendNumber(text, l.turn)
-	return string(append(text, byte(flags)))
+	return labelMark + numbers.Join(numberBytes, l.id, l.turn) + numbers.Join(flagBytes, flags)
 }
 
 // labelOf: the label that a page's payload is; false if it is none.
 func labelOf(payload string) (label, bool) {
-	flags := payload[labelBytes-1]
-	if payload[0] != labelMark || flags >= noBit || strings.Trim(payload[labelBytes:], "\x00") != "" {
+	flags := payload[flagsAt]
+	if !strings.HasPrefix(payload, labelMark) || flags >= noBit || strings.Trim(payload[labelBytes:], "\x00") != "" {
 		return label{}, false
 	}
-	l := label{
-		id:      numberAt(payload[1:]),
-		turn:    numberAt(payload[1+numberBytes:]),
-		single:  flags&singleBit != 0,
-		changed: flags&changedBit != 0,
-	}
-	if !isNumber(l.id) || !isNumber(l.turn) {
+	n := numbers.Split(numberBytes, payload[len(labelMark):flagsAt])
+	if !numbers.Valid(n...) {
 		return label{}, false
 	}
-	return l, true
-}
-
-func appendNumber(text []byte, n int) []byte {
-	for i := numberBytes - 1; i >= 0; i-- {
-		text = append(text, byte(n>>(8*i)))
-	}
-	return text
-}
-
-// numberAt: the number at the beginning of a text; one that no int holds is a negative one.
-func numberAt(text string) int {
-	n := uint64(0)
-	for i := range numberBytes {
-		n = n<<8 | uint64(text[i])
-	}
-	return int(n)
+	return label{id: n[0], turn: n[1], single: flags&singleBit != 0, changed: flags&changedBit != 0}, true
 }
