@@ -55,9 +55,9 @@ func (g generation) feeds(id int) bool {
 
 // chart is what lies on a chip, as far as its blocks tell.
 type chart struct {
-	generation       // the greatest that is complete
-	named      []int // the generations that the masters name
-	next       int   // the generation that is to be written
+	generation // the greatest that is complete
+	naming
+	next int // the generation that is to be written
 }
 
 // survey: ErrForm if no generation is complete.
@@ -66,14 +66,15 @@ func survey(v *leb.Volume) (chart, api.Errno) {
 	if err != api.OK {
 		return chart{}, err
 	}
-	s := chart{generation: greatest(labels)}
+	n, err := namingOn(v)
+	if err != api.OK {
+		return chart{}, err
+	}
+	s := chart{generation: greatest(labels), naming: n}
 	if s.total == 0 {
 		return chart{}, api.ErrForm
 	}
-	if s.named, err = namedBy(v); err != api.OK {
-		return chart{}, err
-	}
-	s.next = 1 + max(greatestBlock(v), slices.Max(append(s.named, 0)))
+	s.next = 1 + max(greatestBlock(v), s.named)
 	return s, api.OK
 }
 
@@ -103,7 +104,7 @@ func labelOf(v *leb.Volume, id int) (node.Label, api.Errno) {
 	return label, api.OK
 }
 
-// greatest: of the generations that are complete; a zero one if none is.
+// greatest: of the generations that are complete; one of no blocks if none is.
 func greatest(labels map[int]node.Label) generation {
 	best := generation{gen: -1}
 	for id, label := range labels {
@@ -126,19 +127,25 @@ func greatestBlock(v *leb.Volume) int {
 	return most
 }
 
-// namedBy: the generations that the masters name.
-func namedBy(v *leb.Volume) ([]int, api.Errno) {
-	var gens []int
+// naming is what a Mount goes by.
+type naming struct {
+	named  int // the generation that the masters name, the greater one if they don't agree; -1 if there is none
+	master int // the first one that names it
+}
+
+func namingOn(v *leb.Volume) (naming, api.Errno) {
+	best := naming{named: -1}
 	for id := range masters {
 		label, err := labelOf(v, id)
 		if err != api.OK {
-			return nil, err
+			return naming{}, err
 		}
-		if pages, _ := v.Count(id); pages == labelPages && label.Kind == masterKind {
-			gens = append(gens, label.Gen)
+		pages, _ := v.Count(id)
+		if pages == labelPages && label.Kind == masterKind && label.Gen > best.named {
+			best = naming{label.Gen, id}
 		}
 	}
-	return gens, api.OK
+	return best, api.OK
 }
 
 // pairs: the state of the generation, and of how many groups its journal is.

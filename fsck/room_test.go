@@ -183,15 +183,29 @@ func TestTooFewBlocks(t *testing.T) {
 	if got := told(pairsOf(t, mounted(t, c, usual))); got != want {
 		t.Fatalf("Mount shows\n%s\nand not\n%s", got, want)
 	}
-	v, c := laid(t, someFile("abc"))
-	for b := range usual.Blocks {
-		c.Wear(b)
+}
+
+// TestWornBlocks: with one of those worn that would have to go, there are too few, and with one that is of no use to anybody, there are not.
+func TestWornBlocks(t *testing.T) {
+	for _, worn := range [][]int{{1}, {1, nodes5}, {index5}, {1, index5}, {1, nodes5, index5}} {
+		for _, more := range []int{0, 1, 2} {
+			v, c := laid(t, someFile("abc"))
+			for id := range more {
+				ok(t, v.Change(1000+256*id, false, "x"))
+			}
+			wearFree(c, v.Blocks(), 0)
+			for _, id := range worn {
+				c.Wear(find(t, c, usual, id))
+			}
+			good := 3 + more - len(slices.DeleteFunc(slices.Clone(worn), func(id int) bool { return id == nodes5 }))
+			if good >= 3 {
+				checkReport(t, c, usual, fsck.Report{Gen: 5, Nodes: 4})
+			} else {
+				checkError(t, c, usual, api.ErrFull)
+			}
+			checkRead(t, c, "/f", "abc")
+		}
 	}
-	checkError(t, c, usual, api.ErrFull)
-	if got := attached(t, c, usual).IDs(); !slices.Equal(got, v.IDs()) {
-		t.Fatalf("the blocks are %v, not %v", got, v.IDs())
-	}
-	checkRead(t, c, "/f", "abc")
 }
 
 // TestNoTurn: a turn that is the last one ends it, and what is there stays.

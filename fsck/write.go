@@ -24,38 +24,41 @@ func needOf(plan space.Plan, pairs []api.Pair) int {
 	return nodes + index + 1 // for the first master
 }
 
-// write lays what was found. What can be done without is removed only if there is no room beside it: first what no Mount and no Check looks at; then the rest, if that is enough, for otherwise what can be mounted now could not be mounted any more.
+// write lays what was found. What can be done without is removed only as far as there is no room beside it, and only if there will be enough then: else what can be mounted now could not be mounted any more.
 func (s chart) write(v *leb.Volume, lay func() api.Errno, need int) api.Errno {
-	err := lay()
-	for _, unwanted := range []func(id int) bool{s.isLeft, s.isSpare} {
-		ids := slices.DeleteFunc(v.IDs(), func(id int) bool { return !unwanted(id) })
+	ids := s.dispensable(v)
+	for {
+		err := lay()
 		free := wear.Spare(v.Blocks())
 		if err != api.ErrFull || free >= need || free+len(ids) < need {
-			continue
-		}
-		if err := remove(v, ids); err != api.OK {
 			return err
 		}
-		err = lay()
-	}
-	return err
-}
-
-// isLeft: is a logical block of no use, whatever becomes of this Check?
-func (s chart) isLeft(id int) bool {
-	gen := id / genNumbers
-	return id >= masters && gen != s.gen && !slices.Contains(s.named, gen)
-}
-
-// isSpare: is a logical block none of those that another Check would need?
-func (s chart) isSpare(id int) bool { return !s.feeds(id) }
-
-// remove begins with the greatest numbers: the index of a generation goes before the masters that name it, so that a Mount after a power loss never takes one that is older.
-func remove(v *leb.Volume, ids []int) api.Errno {
-	for _, id := range slices.Backward(ids) {
-		if err := v.Unmap(id); err != api.OK {
+		if err := v.Unmap(ids[0]); err != api.OK {
 			return err
 		}
+		ids = ids[1:]
 	}
-	return api.OK
+}
+
+// dispensable: the logical blocks that another Check would not need, in the order in which they are to go. Those that a Mount needs are the last ones, and of these the master is: as long as it is there, no Mount takes an older one that could not be erased.
+func (s chart) dispensable(v *leb.Volume) []int {
+	var first, last []int
+	for _, id := range slices.Backward(v.IDs()) {
+		switch {
+		case s.feeds(id):
+		case s.mounts(id):
+			last = append(last, id)
+		default:
+			first = append(first, id)
+		}
+	}
+	return append(first, last...)
+}
+
+// mounts: is a logical block one that a Mount needs?
+func (s chart) mounts(id int) bool {
+	if id < masters {
+		return id == s.master
+	}
+	return id/genNumbers == s.named
 }
